@@ -1,0 +1,1 @@
+"""Lastturn: a gift exchange that one row of guests explains."""
