@@ -1,0 +1,82 @@
+"""Parties: Wishes with a row of the guests. The row explains who holds what."""
+
+from lastturn.errors import InvalidHolding, InvalidRow
+from lastturn.names import is_order
+from lastturn.wishes import best_of
+
+
+def check_row(wishes, row):
+    """Raise an error unless the value is a row, or an arrival order, of the guests."""
+    if not is_order(row, wishes.guests()):
+        raise InvalidRow()
+
+
+def choose(wishes, row):
+    """Return the holding that results when the guests choose one by one down the row."""
+    check_row(wishes, row)
+    left = wishes.gifts()
+    holding = {guest: None for guest in wishes.guests()}
+    for guest in row:
+        gift = best_of(wishes.ranking(guest), left)
+        if gift is not None:
+            holding[guest] = gift
+            left.remove(gift)
+    return holding
+
+
+def table_gifts(wishes, holding):
+    """Return the list of the gifts that nobody holds, in gift order."""
+    guests = wishes.guests()
+    if not isinstance(holding, dict) or not is_order(list(holding), guests):
+        raise InvalidHolding(None)
+    left = wishes.gifts()
+    for guest in guests:
+        gift = holding[guest]
+        if gift is not None:
+            if gift not in left:
+                raise InvalidHolding(guest)
+            left.remove(gift)
+    return left
+
+
+def holder_of(holding, gift):
+    """Return the guest who holds the gift, or None if it is None or nobody holds it."""
+    if gift is not None:
+        for guest, held in holding.items():
+            if held == gift:
+                return guest
+    return None
+
+
+def holding_key(wishes, holding):
+    """Return the tuple of gift numbers by which holdings are compared; None comes after all gifts."""
+    gifts = wishes.gifts() + [None]
+    return tuple([gifts.index(holding[guest]) for guest in wishes.guests()])
+
+
+class Party:
+    """Wishes and a row; the holding is the one that choosing down the row results in. Parties never change."""
+
+    def __init__(self, wishes, row):
+        self._holding = choose(wishes, row)
+        self._wishes = wishes
+        self._row = tuple(row)
+
+    def __eq__(self, other):
+        return isinstance(other, Party) and self._wishes == other._wishes and self._row == other._row
+
+    def wishes(self):
+        """Return the Wishes of the party."""
+        return self._wishes
+
+    def row(self):
+        """Return the row, a tuple."""
+        return self._row
+
+    def holding(self):
+        """Return the holding, a dict from each guest to a gift or None, in guest order."""
+        return dict(self._holding)
+
+    def table(self):
+        """Return the list of the table gifts, in gift order."""
+        return table_gifts(self._wishes, self._holding)
