@@ -6,6 +6,9 @@ from lastturn.parties import Party, check_row, holding_key, table_gifts
 from lastturn.rounds import arrive, check_guest
 from lastturn.wishes import Wishes
 
+# Stands in the place of a gift for a guest who is not there yet; None is for a guest who is there without a gift.
+ABSENT = ""
+
 
 def check_arrivals(wishes):
     """Raise an error if there are too many guests to carry out all of their orders."""

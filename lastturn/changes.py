@@ -2,9 +2,9 @@
 
 from lastturn.errors import DuplicateGift, InvalidName, InvalidRanking, TooLarge, UnknownGift
 from lastturn.names import GIFTS, is_name, is_number, is_order
-from lastturn.parties import Party, holder_of
+from lastturn.parties import Party, owners_of
 from lastturn.rounds import check_guest, offer_takes
-from lastturn.wishes import Wishes, best_of
+from lastturn.wishes import Wishes, best_left
 
 
 def check_places(wishes, places):
@@ -21,12 +21,12 @@ def break_takes(wishes, row, holding, broken):
     """Return the takes after the gift broke; `wishes` are those without it."""
     now = dict(holding)
     takes = []
-    taker = holder_of(now, broken)
+    taker = owners_of(now).get(broken)
     while taker is not None:
         now[taker] = None
         ahead = [now[guest] for guest in row[:row.index(taker)]]
-        gift = best_of(wishes.ranking(taker), [other for other in wishes.gifts() if other not in ahead])
-        source = holder_of(now, gift)
+        gift = best_left(wishes.ranking(taker), ahead)
+        source = owners_of(now).get(gift)
         takes.append((taker, gift, source))
         now[taker] = gift
         taker = source

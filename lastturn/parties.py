@@ -2,7 +2,7 @@
 
 from lastturn.errors import InvalidHolding, InvalidRow
 from lastturn.names import is_order
-from lastturn.wishes import best_of
+from lastturn.wishes import best_left
 
 
 def check_row(wishes, row):
@@ -14,13 +14,11 @@ def check_row(wishes, row):
 def choose(wishes, row):
     """Return the holding that results when the guests choose one by one down the row."""
     check_row(wishes, row)
-    left = wishes.gifts()
     holding = {guest: None for guest in wishes.guests()}
+    gone = []
     for guest in row:
-        gift = best_of(wishes.ranking(guest), left)
-        if gift is not None:
-            holding[guest] = gift
-            left.remove(gift)
+        holding[guest] = best_left(wishes.ranking(guest), gone)
+        gone.append(holding[guest])
     return holding
 
 
@@ -39,13 +37,9 @@ def table_gifts(wishes, holding):
     return left
 
 
-def holder_of(holding, gift):
-    """Return the guest who holds the gift, or None if it is None or nobody holds it."""
-    if gift is not None:
-        for guest, held in holding.items():
-            if held == gift:
-                return guest
-    return None
+def owners_of(holding):
+    """Return a dict from each gift that a guest holds to this guest."""
+    return {gift: guest for guest, gift in holding.items() if gift is not None}
 
 
 def holding_key(wishes, holding):

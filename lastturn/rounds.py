@@ -2,8 +2,8 @@
 
 from lastturn.errors import DuplicateGuest, InvalidName, UnknownGuest
 from lastturn.names import is_name
-from lastturn.parties import Party, holder_of
-from lastturn.wishes import Wishes, best_of
+from lastturn.parties import Party, owners_of
+from lastturn.wishes import Wishes, best_left
 
 
 def check_newcomer(wishes, guest):
@@ -20,19 +20,20 @@ def check_guest(wishes, guest):
         raise UnknownGuest(guest)
 
 
-def round_takes(wishes, holding, first):
-    """Return the takes of a round with this first taker, who has laid any gift of their own on the table."""
-    # A gift that nobody has taken yet is still where it was before the round, so `before` need not follow the takes.
-    before = dict(holding)
-    before[first] = None
-    untaken = wishes.gifts()
+def round_takes(rankings, owners, first):
+    """Return the takes of a round with this first taker; `owners` are the guests with a gift that is not on the table.
+
+    It asks for nothing but rankings[guest] and owners.get(gift), as some functions carry out a great many rounds.
+    """
+    # A gift that nobody has taken yet is still where it was before the round, so `owners` need not follow the takes.
     takes = []
+    taken = []
     taker = first
     while taker is not None:
-        gift = best_of(wishes.ranking(taker), untaken)
-        source = holder_of(before, gift)
+        gift = best_left(rankings[taker], taken)
+        source = owners.get(gift)
         takes.append((taker, gift, source))
-        untaken = [other for other in untaken if other != gift]
+        taken.append(gift)
         taker = source
     return takes
 
@@ -70,7 +71,7 @@ def arrive(party, guest, ranking):
     rankings[guest] = ranking
     # Wishes raise TooLarge(GUESTS), then InvalidRanking: of the newcomer, as all other rankings are valid.
     wishes = Wishes(wishes.gifts(), rankings)
-    takes = round_takes(wishes, party.holding(), guest)
+    takes = round_takes(rankings, owners_of(party.holding()), guest)
     return Party(wishes, new_row(party.row(), takes)), takes
 
 
@@ -80,7 +81,8 @@ def turn(party, guest):
     check_guest(wishes, guest)
     holding = party.holding()
     laid = holding[guest]
-    takes = round_takes(wishes, holding, guest)
+    holding[guest] = None
+    takes = round_takes(wishes.rankings(), owners_of(holding), guest)
     row = new_row(party.row(), takes)
     if laid not in [gift for _, gift, _ in takes]:
         takes = takes + offer_takes(wishes, row, after_takes(holding, takes), laid)

@@ -26,12 +26,19 @@ def check_rankings(gifts, rankings):
             raise InvalidRanking(guest)
 
 
-def best_of(ranking, gifts):
-    """Return the best of these gifts in the ranking, or None if there are none."""
+def best_left(ranking, gone):
+    """Return the best gift of the ranking that is not gone, or None if all are gone."""
     for gift in ranking:
-        if gift in gifts:
+        if gift not in gone:
             return gift
     return None
+
+
+def worth(ranking, gift):
+    """Return the place of the gift in the ranking; None, which is worse than every gift, comes after all of them."""
+    if gift is None:
+        return len(ranking)
+    return ranking.index(gift)
 
 
 class Wishes:

@@ -19,6 +19,7 @@ NODES = set("Module Expr Constant ImportFrom alias FunctionDef arguments arg Cla
             "BinOp Add Sub Mult FloorDiv Mod UnaryOp Not USub BoolOp And Or Compare Eq NotEq Lt LtE Gt GtE Is IsNot In "
             "NotIn IfExp List Tuple Dict Set ListComp DictComp SetComp comprehension Lambda AugAssign Starred JoinedStr "
             "FormattedValue".split())
+LIBRARY = {"itertools": {"permutations", "product", "combinations"}}
 BARRED = set("register mro elements open input law version_info with_traceback add_note type typing enum Enum Flag "
              "Generic Protocol ABC namedtuple NamedTuple exit help id license vars dir eval exec compile".split())
 DOUBLE = {"__init__", "__eq__", "__len__", "__repr__", "__str__"}
@@ -114,6 +115,10 @@ class LanguageTest(unittest.TestCase):
         for path, (_, tree) in FILES.items():
             imports = [node for node in ast.walk(tree) if isinstance(node, ast.ImportFrom)]
             self.assertTrue(all(node in tree.body and node.level == 0 for node in imports))
+            for node in [node for node in imports if node.module in LIBRARY]:
+                self.assertTrue(LIBRARY[node.module].issuperset(alias.name for alias in node.names))
+                self.assertEqual([alias.asname for alias in node.names], [None] * len(node.names))
+            imports = [node for node in imports if node.module not in LIBRARY]
             for node in imports:
                 self.assertTrue(node.module.startswith("lastturn."))
                 defined = FILES[module_path(node.module)][1]
@@ -129,6 +134,16 @@ class LanguageTest(unittest.TestCase):
             ready = {path for path in graph if path not in done and done.issuperset(graph[path])}
             self.assertTrue(ready, "files import from each other")
             done |= ready
+
+    @for_each_file
+    def test_what_the_library_makes_is_iterated_at_once(self, path, text, tree):
+        words = {alias.name for node in tree.body if isinstance(node, ast.ImportFrom) and node.module in LIBRARY
+                 for alias in node.names}
+        iterated = [node.iter.func for node in ast.walk(tree) if isinstance(node, (ast.For, ast.comprehension))
+                    and isinstance(node.iter, ast.Call)]
+        for node in ast.walk(tree):
+            if isinstance(node, ast.Name) and node.id in words:
+                self.assertIn(node, iterated)
 
     @for_each_file
     def test_names(self, path, text, tree):
