@@ -22,19 +22,23 @@ def choose(wishes, row):
     return holding
 
 
-def table_gifts(wishes, holding):
-    """Return the list of the gifts that nobody holds, in gift order."""
-    guests = wishes.guests()
-    if not isinstance(holding, dict) or not is_order(list(holding), guests):
-        raise InvalidHolding(None)
+def gifts_left(wishes, holding):
+    """Return the list of the gifts that none of the guests in the dict holds; raise an error for a wrong gift."""
     left = wishes.gifts()
-    for guest in guests:
-        gift = holding[guest]
+    for guest in wishes.guests():
+        gift = holding.get(guest)
         if gift is not None:
             if gift not in left:
                 raise InvalidHolding(guest)
             left.remove(gift)
     return left
+
+
+def table_gifts(wishes, holding):
+    """Return the list of the gifts that nobody holds, in gift order."""
+    if not isinstance(holding, dict) or not is_order(list(holding), wishes.guests()):
+        raise InvalidHolding(None)
+    return gifts_left(wishes, holding)
 
 
 def owners_of(holding):

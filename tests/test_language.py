@@ -14,11 +14,11 @@ BUILTINS = {"len", "range", "enumerate", "zip", "min", "max", "sum", "abs", "sor
 METHODS = set("append clear copy count endswith extend find get index insert isalnum isalpha isdigit islower isspace "
               "isupper items join keys ljust lower lstrip partition pop remove replace reverse rfind rjust rpartition "
               "rsplit rstrip setdefault split splitlines startswith strip update upper values zfill bit_length".split())
-NODES = set("Module Expr Constant ImportFrom alias FunctionDef arguments arg ClassDef Assign Name Load Store Del Return "
-            "If While For Break Continue Pass Raise Try ExceptHandler Delete Call keyword Attribute Subscript Slice "
-            "BinOp Add Sub Mult FloorDiv Mod UnaryOp Not USub BoolOp And Or Compare Eq NotEq Lt LtE Gt GtE Is IsNot In "
-            "NotIn IfExp List Tuple Dict Set ListComp DictComp SetComp comprehension Lambda AugAssign Starred JoinedStr "
-            "FormattedValue".split())
+NODES = set("Module Expr Constant ImportFrom alias FunctionDef arguments arg ClassDef Assign Name Load Store "
+            "Del Return If While For Break Continue Pass Raise Try ExceptHandler Delete Call keyword Attribute "
+            "Subscript Slice BinOp Add Sub Mult FloorDiv Mod BitOr BitAnd LShift UnaryOp Not USub BoolOp And Or "
+            "Compare Eq NotEq Lt LtE Gt GtE Is IsNot In NotIn IfExp List Tuple Dict Set ListComp DictComp "
+            "SetComp comprehension Lambda AugAssign Starred JoinedStr FormattedValue".split())
 LIBRARY = {"itertools": {"permutations", "product", "combinations"}}
 BARRED = set("register mro elements open input law version_info with_traceback add_note type typing enum Enum Flag "
              "Generic Protocol ABC namedtuple NamedTuple exit help id license vars dir eval exec compile".split())
