@@ -1,9 +1,9 @@
 """Arrivals: to which holdings the arrival orders of the guests lead."""
 
 from lastturn.errors import TooLarge
-from lastturn.names import ARRIVALS
-from lastturn.parties import Party, check_row, holding_key, table_gifts
-from lastturn.rounds import arrive, check_guest
+from lastturn.names import ARRIVALS, named
+from lastturn.parties import Party, check_row, in_order, table_gifts
+from lastturn.rounds import arrive, check_guest, round_takes
 from lastturn.wishes import Wishes
 
 # Stands in the place of a gift for a guest who is not there yet; None is for a guest who is there without a gift.
@@ -21,15 +21,37 @@ def nobody_present(wishes):
     return Party(Wishes(wishes.gifts(), {}), ())
 
 
+def after_one_more(rankings, reached):
+    """Return what is reached from `reached` by one more arrival.
+
+    Both are dicts from each holding, a tuple of gifts, None or ABSENT, to a tuple (number, order): how many orders lead
+    to it, and the least of them. These orders ascend. Guests are numbers.
+    """
+    after = {}
+    for held, (number, order) in reached.items():
+        owners = {gift: guest for guest, gift in enumerate(held) if gift is not None}
+        for newcomer, gift in enumerate(held):
+            if gift == ABSENT:
+                now = list(held)
+                for guest, taken, _ in round_takes(rankings, owners, newcomer):
+                    now[guest] = taken
+                holding = tuple(now)
+                if holding in after:
+                    after[holding] = after[holding][0] + number, after[holding][1]
+                else:
+                    # The orders ascend, so the first one that leads here is the least one.
+                    after[holding] = number, order + (newcomer,)
+    return after
+
+
 def all_arrivals(wishes):
-    """Return a list of tuples (order, holding) with all arrival orders, in ascending order."""
-    guests = wishes.guests()
-    # Orders with the same beginning share the arrivals of this beginning.
-    begun = [((), nobody_present(wishes))]
-    for _ in guests:
-        begun = [(order + (guest,), arrive(party, guest, wishes.ranking(guest))[0])
-                 for order, party in begun for guest in guests if guest not in order]
-    return [(order, party.holding()) for order, party in begun]
+    """Return what is reached when all guests have arrived, as `after_one_more` returns it."""
+    rankings = list(wishes.rankings().values())
+    # What follows depends on who is present and who holds what: orders that agree in this share their later rounds.
+    reached = {(ABSENT,) * len(rankings): (1, ())}
+    for _ in rankings:
+        reached = after_one_more(rankings, reached)
+    return reached
 
 
 def after_arrivals(wishes, order):
@@ -46,18 +68,12 @@ def after_arrivals(wishes, order):
 def outcomes(wishes):
     """Return the list of tuples (holding, number, order) of all holdings to which orders lead, sorted by holdings."""
     check_arrivals(wishes)
-    counts = {}
-    least = {}
-    for order, holding in all_arrivals(wishes):
-        key = holding_key(wishes, holding)
-        counts[key] = counts.get(key, 0) + 1
-        if key not in least:
-            least[key] = order
-    gifts = wishes.gifts() + [None]
+    guests = wishes.guests()
+    reached = all_arrivals(wishes)
     found = []
-    for key in sorted(counts):
-        holding = {guest: gifts[number] for guest, number in zip(wishes.guests(), key)}
-        found.append((holding, counts[key], least[key]))
+    for held in in_order(wishes, reached):
+        number, order = reached[held]
+        found.append((dict(zip(guests, held)), number, named(guests, order)))
     return found
 
 
@@ -66,21 +82,26 @@ def leads_to(wishes, holding):
     # Only called to check the holding.
     table_gifts(wishes, holding)
     check_arrivals(wishes)
-    for order, reached in all_arrivals(wishes):
-        if reached == holding:
-            return order
-    return None
+    guests = wishes.guests()
+    held = tuple([holding[guest] for guest in guests])
+    reached = all_arrivals(wishes)
+    if held not in reached:
+        return None
+    return named(guests, reached[held][1])
 
 
 def extremes(wishes, guest):
     """Return the best result of the guest over all orders and the least such order, then the worst and its order."""
     check_guest(wishes, guest)
     check_arrivals(wishes)
+    guests = wishes.guests()
+    at = guests.index(guest)
+    reached = all_arrivals(wishes)
     least = {}
-    for order, holding in all_arrivals(wishes):
-        if holding[guest] not in least:
-            least[holding[guest]] = order
+    for held, (_, order) in reached.items():
+        if held[at] not in least:
+            least[held[at]] = order
     results = [gift for gift in wishes.ranking(guest) + (None,) if gift in least]
     best = results[0]
     worst = results[-1]
-    return best, least[best], worst, least[worst]
+    return best, named(guests, least[best]), worst, named(guests, least[worst])

@@ -4,7 +4,7 @@ from lastturn.arrivals import ABSENT, check_arrivals
 from lastturn.envy import better_gifts, envied_by
 from lastturn.errors import NotEfficient
 from lastturn.names import are_names
-from lastturn.parties import holding_key, table_gifts
+from lastturn.parties import in_order, table_gifts
 from lastturn.wishes import best_left
 
 
@@ -93,5 +93,4 @@ def efficient_holdings(wishes):
     chosen = {(ABSENT,) * len(guests): True}
     for _ in guests:
         chosen = one_more_chose(rankings, chosen)
-    holdings = [dict(zip(guests, held)) for held in chosen]
-    return sorted(holdings, key=lambda holding: holding_key(wishes, holding))
+    return [dict(zip(guests, held)) for held in in_order(wishes, chosen)]

@@ -30,6 +30,11 @@ def is_order(value, names):
     return isinstance(value, (list, tuple)) and len(value) == len(names) and all([name in value for name in names])
 
 
+def named(names, numbers):
+    """Return the names with these numbers, a tuple."""
+    return tuple([names[number] for number in numbers])
+
+
 def is_number(value, most):
     """Return True if the value is an integer from 0 to `most`, otherwise False."""
     return isinstance(value, int) and not isinstance(value, bool) and 0 <= value <= most

@@ -46,10 +46,10 @@ def owners_of(holding):
     return {gift: guest for guest, gift in holding.items() if gift is not None}
 
 
-def holding_key(wishes, holding):
-    """Return the tuple of gift numbers by which holdings are compared; None comes after all gifts."""
+def in_order(wishes, holdings):
+    """Return these holdings, tuples of gifts or None in guest order, as a sorted list."""
     gifts = wishes.gifts() + [None]
-    return tuple([gifts.index(holding[guest]) for guest in wishes.guests()])
+    return sorted(list(holdings), key=lambda held: [gifts.index(gift) for gift in held])
 
 
 class Party:

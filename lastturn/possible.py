@@ -1,7 +1,7 @@
 """Possible gifts: what guests can get by choosing down some row."""
 
 from lastturn.errors import InvalidHolding, TooLarge
-from lastturn.names import LISTED
+from lastturn.names import LISTED, named
 from lastturn.parties import gifts_left
 from lastturn.rounds import check_guest
 from lastturn.wishes import best_left
@@ -58,7 +58,7 @@ def possible_gifts(wishes, guest):
             if gift not in least or row < least[gift]:
                 least[gift] = row
         begun = longer_rows(rankings, begun, {})
-    return [(gift, tuple([guests[at] for at in least[gift]])) for gift in ranking + (None,) if gift in least]
+    return [(gift, named(guests, least[gift])) for gift in ranking + (None,) if gift in least]
 
 
 def row_with(wishes, wanted):
@@ -74,4 +74,4 @@ def row_with(wishes, wanted):
     rows = list(begun.values())
     if not rows:
         return None
-    return tuple([guests[at] for at in rows[0]])
+    return named(guests, rows[0])

@@ -1,6 +1,7 @@
 """Points 12 and 23: what arrival orders lead to."""
 
 import itertools
+import time
 import unittest
 
 from helpers import MANY_GIFTS, MANY_GUESTS, Model, all_wishes, any_values, check_same, raised, random_wishes, same_kind
@@ -9,6 +10,7 @@ from lastturn import arrivals
 from lastturn.arrivals import after_arrivals, extremes, leads_to, outcomes
 from lastturn.errors import InvalidHolding, InvalidRow, TooLarge, UnknownGuest
 from lastturn.parties import Party
+from lastturn.rounds import arrive
 from lastturn.wishes import Wishes
 
 
@@ -192,6 +194,69 @@ class LeadsToTest(unittest.TestCase):
 
     def test_too_many_guests(self):
         self.assertEqual(raised(self, TooLarge, leads_to, seven(), dict.fromkeys(MANY_GUESTS[:7])).limit, 6)
+
+
+def led_by_arrive(wishes):
+    """Return all orders, from the least one on, each with the holding to which `arrive` leads."""
+    begun = [((), Party(Wishes(wishes.gifts(), {}), ()))]
+    for _ in wishes.guests():
+        begun = [(order + (guest,), arrive(party, guest, wishes.ranking(guest))[0])
+                 for order, party in begun for guest in wishes.guests() if guest not in order]
+    return [(order, party.holding()) for order, party in begun]
+
+
+class ManyGuestsTest(unittest.TestCase):
+    """Orders that lead to the same holding on the way go on together; the answers are those of each order."""
+
+    def wishes(self):
+        """Return Wishes of five or six guests: all rankings the same, or by chance."""
+        rng = seeded(11)
+        guests = ["zoe", "ann", "moe", "cy", "bob", "dan"]
+        found = [random_wishes(rng, many, few) for many, few in [(6, 6), (16, 6), (3, 6), (5, 6), (4, 5), (7, 5), (2, 5)]]
+        for many in (0, 1, 2, 3, 5, 6, 16):
+            gifts = MANY_GIFTS[many - 1::-1] if many else []
+            found.append(Wishes(gifts, {guest: sorted(gifts) for guest in guests}))
+        return found
+
+    def test_against_arrive(self):
+        for wishes in self.wishes():
+            gifts, guests = wishes.gifts(), wishes.guests()
+            led = led_by_arrive(wishes)
+            orders = {}
+            for order, holding in led:
+                orders.setdefault(tuple(place(gifts, holding[guest]) for guest in guests), []).append(order)
+            expected = [(dict(zip(guests, [(gifts + [None])[at] for at in key])), len(orders[key]), orders[key][0])
+                        for key in sorted(orders)]
+            self.assertTrue(same_kind(outcomes(wishes), expected))
+            for holding, _, order in expected[::7] + expected[-1:]:
+                self.assertTrue(same_kind(leads_to(wishes, holding), order))
+            self.assertEqual(leads_to(wishes, dict.fromkeys(guests)), None if gifts else tuple(guests))
+            for guest in guests:
+                ranked = sorted(led, key=lambda pair: place(wishes.ranking(guest), pair[1][guest]))
+                best = ranked[0]
+                worst = [pair for pair in led if pair[1][guest] == ranked[-1][1][guest]][0]
+                self.assertTrue(same_kind(extremes(wishes, guest), (best[1][guest], best[0], worst[1][guest], worst[0])))
+
+    def test_the_time_that_they_take(self):
+        # They are asked many thousand times, so that they must not carry out every round on parties.
+        many = Wishes(list("abcdefghijklmnop"), {guest: list("abcdefghijklmnop") for guest in "abcdef"})
+        few = Wishes(list("abc"), {guest: list("abc") for guest in "abcdef"})
+        for wishes in (many, few):
+            last = led_by_arrive(wishes)[-1][1]
+            allowed = time_of(lambda: led_by_arrive(wishes)) / 2
+            for call in (lambda: outcomes(wishes), lambda: extremes(wishes, "a"), lambda: leads_to(wishes, last),
+                         lambda: leads_to(wishes, dict.fromkeys("abcdef"))):
+                self.assertLess(time_of(call), allowed)
+
+
+def time_of(call):
+    """Return the least time that the call takes."""
+    times = []
+    for _ in range(5):
+        start = time.process_time()
+        call()
+        times.append(time.process_time() - start)
+    return min(times)
 
 
 class ExtremesTest(unittest.TestCase):
