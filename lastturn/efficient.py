@@ -4,28 +4,9 @@ from lastturn.arrivals import ABSENT, check_arrivals
 from lastturn.envy import better_gifts, envied_by
 from lastturn.errors import NotEfficient
 from lastturn.names import are_names
+from lastturn.orders import least_order, ring_of
 from lastturn.parties import in_order, table_gifts
 from lastturn.wishes import best_left
-
-
-def least_row(envied):
-    """Return the least row with every envied guest ahead of those who envy; who waits for a ring is left out of it."""
-    row = []
-    while True:
-        ready = [guest for guest in envied if guest not in row and all([other in row for other in envied[guest]])]
-        if not ready:
-            return tuple(row)
-        row.append(ready[0])
-
-
-def ring_of(envied, left):
-    """Return a ring among the guests in `left`, each of whom envies another one of them."""
-    path = []
-    guest = left[0]
-    while guest not in path:
-        path.append(guest)
-        guest = [other for other in envied[guest] if other in left][0]
-    return tuple(path[path.index(guest):])
 
 
 def improvement(wishes, holding):
@@ -35,12 +16,10 @@ def improvement(wishes, holding):
         for gift in better_gifts(wishes, holding, guest):
             if gift in table:
                 return "table", guest, gift
-    envied = envied_by(wishes, holding)
-    row = least_row(envied)
-    left = [guest for guest in envied if guest not in row]
-    if left:
-        return "ring", ring_of(envied, left)
-    return None
+    ring = ring_of(envied_by(wishes, holding))
+    if ring is None:
+        return None
+    return "ring", ring
 
 
 def is_efficient(wishes, holding):
@@ -71,7 +50,7 @@ def row_of(wishes, holding):
     """Return the least row of the holding."""
     if not is_efficient(wishes, holding):
         raise NotEfficient()
-    return least_row(envied_by(wishes, holding))
+    return least_order(envied_by(wishes, holding))
 
 
 def one_more_chose(rankings, chosen):

@@ -18,7 +18,7 @@ NODES = set("Module Expr Constant ImportFrom alias FunctionDef arguments arg Cla
             "Del Return If While For Break Continue Pass Raise Try ExceptHandler Delete Call keyword Attribute "
             "Subscript Slice BinOp Add Sub Mult FloorDiv Mod BitOr BitAnd LShift UnaryOp Not USub BoolOp And Or "
             "Compare Eq NotEq Lt LtE Gt GtE Is IsNot In NotIn IfExp List Tuple Dict Set ListComp DictComp "
-            "SetComp comprehension Lambda AugAssign Starred JoinedStr FormattedValue".split())
+            "SetComp comprehension Lambda AugAssign Starred JoinedStr FormattedValue Pow".split())
 LIBRARY = {"itertools": {"permutations", "product", "combinations"}}
 BARRED = set("register mro elements open input law version_info with_traceback add_note type typing enum Enum Flag "
              "Generic Protocol ABC namedtuple NamedTuple exit help id license vars dir eval exec compile".split())
@@ -174,6 +174,17 @@ class LanguageTest(unittest.TestCase):
                 self.assertNotIsInstance(node.value, (float, complex, bytes))
                 if isinstance(node.value, str):
                     self.assertNotIn("%", node.value)
+
+    @for_each_file
+    def test_exponents_and_stars(self, path, text, tree):
+        for node in ast.walk(tree):
+            if isinstance(node, ast.BinOp) and isinstance(node.op, ast.Pow):
+                self.assertIsInstance(node.right, ast.Constant)
+                self.assertIn(node.right.value, range(65))
+            if isinstance(node, ast.Call):
+                for argument in node.args:
+                    if isinstance(argument, ast.Starred):
+                        self.assertIsInstance(argument.value, ast.Name)
 
     @for_each_file
     def test_any_and_all_take_lists(self, path, text, tree):
