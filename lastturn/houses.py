@@ -58,7 +58,8 @@ def reached_from(turns, state):
     found = {state: True}
     waiting = [state]
     while waiting:
-        for after in turns.after(waiting.pop()):
+        now = waiting.pop()
+        for after in turns.after(now):
             if after not in found:
                 found[after] = True
                 waiting.append(after)

@@ -1,7 +1,7 @@
 """What the tests of logs share: logs by chance, logs with changed parts, and a second check of point 56."""
 
-from helpers import MANY_GIFTS, MANY_GUESTS, Model, any_values, raised, same_kind
-from lastturn.errors import InvalidGifts, InvalidLog, TooLarge
+from helpers import MANY_GIFTS, MANY_GUESTS, Model, any_values, raised, same_kind, seeded
+from lastturn.errors import InvalidGifts, InvalidLog, TooLarge, UnknownGuest
 from lastturn.logs import check_log
 
 G = ["ball", "kite", "lamp"]
@@ -270,3 +270,38 @@ def check_log_errors(case, function, *others, **named):
     raised(case, InvalidGifts, function, log=None, gifts=0, **named)
     long = [("arrive", "ann", [("ann", "kite", None)])] + [("turn", "ann", [("ann", "kite", None)])] * 200
     case.assertEqual(raised(case, InvalidLog, function, G, long, *others).event, 200)
+
+
+def some_logs(seed, count, fickle):
+    """Return gifts, logs and Accounts of logs by chance."""
+    rng = seeded(seed)
+    found = []
+    for _ in range(count):
+        gifts, log, _ = random_log(rng, rng.randrange(1, 7), rng.randrange(1, 5), rng.randrange(14), fickle)
+        found.append((gifts, log, account_of(gifts, log)[1]))
+    return found
+
+
+def is_twisted(pairs):
+    """Return True if the comparisons are contradictory."""
+    return any(one == other for one, other in closure(pairs))
+
+
+def no_guests(*guests):
+    """Return values that are not among these guests."""
+    values = any_values() + ["eve", "kite", ["ann"], ("ann",), {"ann": 1}, "ann ", [[]], None]
+    return [value for value in values if value not in guests]
+
+
+def check_guests(case, function, *others, **named):
+    """Check that the function raises UnknownGuest for every value that is no guest, whatever else it is passed."""
+    for value in no_guests("ann", "bob", "cy"):
+        with case.subTest(value=value):
+            for gifts, log in ((G, L), (G, TWISTED), (G, []), ([], [])):
+                for rest in (others, (None,) * len(others), ([],) * len(others)):
+                    error = raised(case, UnknownGuest, function, gifts, log, value, *rest)
+                    case.assertTrue(same_kind(error.guest, value))
+            error = raised(case, UnknownGuest, function, guest=value, log=L, gifts=G, **named)
+            case.assertTrue(same_kind(error.guest, value))
+    for guest in ("bob", "cy"):
+        case.assertEqual(raised(case, UnknownGuest, function, G, L[:1], guest, *others).guest, guest)

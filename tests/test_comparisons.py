@@ -7,45 +7,11 @@ import unittest
 from helpers import any_values, raised, same_kind, seeded
 from lastturn import comparisons as module
 from lastturn.comparisons import certain, comparisons, contradiction, is_contradiction, reason
-from lastturn.errors import Contradictory, UnknownGift, UnknownGuest
-from logbook import (G, L, OFFERED, OFFERED_GIFTS, STEPS, TWISTED, account_of, as_lists, check_log_errors, closure, random_log)
+from lastturn.errors import Contradictory, UnknownGift
+from logbook import (G, L, OFFERED, OFFERED_GIFTS, STEPS, TWISTED, account_of, as_lists, check_guests, check_log_errors,
+                     closure, is_twisted, random_log, some_logs)
 
 ALONE = [("arrive", "bob", [("bob", "lamp", None)])]
-
-
-def some_logs(seed, count, fickle):
-    """Return gifts, logs and Accounts of logs by chance."""
-    rng = seeded(seed)
-    found = []
-    for _ in range(count):
-        gifts, log, _ = random_log(rng, rng.randrange(1, 7), rng.randrange(1, 5), rng.randrange(14), fickle)
-        found.append((gifts, log, account_of(gifts, log)[1]))
-    return found
-
-
-def is_twisted(pairs):
-    """Return True if the comparisons are contradictory."""
-    return any(one == other for one, other in closure(pairs))
-
-
-def no_guests(*guests):
-    """Return values that are not among these guests."""
-    values = any_values() + ["eve", "kite", ["ann"], ("ann",), {"ann": 1}, "ann ", [[]], None]
-    return [value for value in values if value not in guests]
-
-
-def check_guests(case, function, *others, **named):
-    """Check that the function raises UnknownGuest for every value that is no guest, whatever else it is passed."""
-    for value in no_guests("ann", "bob", "cy"):
-        with case.subTest(value=value):
-            for gifts, log in ((G, L), (G, TWISTED), (G, []), ([], [])):
-                for rest in (others, (None,) * len(others), ([],) * len(others)):
-                    error = raised(case, UnknownGuest, function, gifts, log, value, *rest)
-                    case.assertTrue(same_kind(error.guest, value))
-            error = raised(case, UnknownGuest, function, guest=value, log=L, gifts=G, **named)
-            case.assertTrue(same_kind(error.guest, value))
-    for guest in ("bob", "cy"):
-        case.assertEqual(raised(case, UnknownGuest, function, G, L[:1], guest, *others).guest, guest)
 
 
 class ComparisonsTest(unittest.TestCase):

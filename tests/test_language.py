@@ -106,7 +106,14 @@ class LanguageTest(unittest.TestCase):
             self.assertTrue(docstring or isinstance(node, allowed), node.lineno)
             if isinstance(node, ast.Assign):
                 self.assertEqual([type(target) for target in node.targets], [ast.Name])
-                ast.literal_eval(node.value)
+                above = {part.name for part in tree.body[:at] if isinstance(part, ast.FunctionDef)}
+                table = isinstance(node.value, ast.Dict) and [
+                    part for part in node.value.values if isinstance(part, ast.Name) and part.id in above]
+                if table:
+                    self.assertEqual(table, node.value.values)
+                    self.assertTrue(all(isinstance(key, ast.Constant) for key in node.value.keys))
+                else:
+                    ast.literal_eval(node.value)
         names = bound_names(tree)
         self.assertEqual(len(names), len(set(names)))
 
